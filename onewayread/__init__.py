@@ -1,0 +1,1 @@
+"""Onewayread: books of words, read in one way."""
