@@ -107,3 +107,35 @@ def check_new_list(test, function, *arguments):
     second = function(*arguments)
     test.assertIsNot(second, first)
     test.assertEqual(second, kept)
+
+
+def check_new_lists_inside(test, function, *arguments):
+    """Checks that the lists inside a returned tuple are new ones on each call."""
+    first = function(*arguments)
+    kept = copy.deepcopy(first)
+    test.assertIs(first.__class__, tuple)
+    for item in first:
+        if isinstance(item, list):
+            item.append("spoilt")
+    test.assertEqual(function(*arguments), kept)
+
+
+def spoilt(thing):
+    """A list or tuple with each item in turn replaced by values of all kinds, and with items too few or too many."""
+    make = thing.__class__
+    yield make(thing[:-1])
+    yield make(thing[1:])
+    yield make([*thing, *thing[:1]])
+    for at in range(len(thing)):
+        for value in all_kinds():
+            yield make([*thing[:at], value, *thing[at + 1:]])
+
+
+def check_judge(test, judge, plain, loom, things):
+    """Checks that a judge tells True or False of each thing, the same as a plain one, and counts both."""
+    told = {True: 0, False: 0}
+    for thing in things:
+        answer = judge(loom, thing)
+        test.assertIs(answer, bool(plain(loom, thing)), (loom.arcs, thing))
+        told[answer] += 1
+    return told
