@@ -3,6 +3,7 @@
 import copy
 import signal
 import unittest
+from collections import Counter
 
 from onewayread import errors
 from onewayread.looms import Loom
@@ -95,45 +96,53 @@ def check_error(test, kind, told, function, *arguments):
     test.fail(f"{kind.__name__} was not raised; the answer was {answer!r}")
 
 
-def check_new_list(test, function, *arguments):
-    """Checks that a function returns a list of its own on each call, new inside too."""
+def check_new_lists_inside(test, function, *arguments):
+    """Checks that the lists inside what is returned are new ones on each call; returns it, and what it was."""
     first = function(*arguments)
     kept = copy.deepcopy(first)
-    test.assertIs(first.__class__, list)
     for item in first:
         if isinstance(item, list):
             item.append("spoilt")
+    test.assertEqual(function(*arguments), kept)
+    return first, kept
+
+
+def check_new_list(test, function, *arguments):
+    """Checks that a function returns a list of its own on each call, new inside too."""
+    first, kept = check_new_lists_inside(test, function, *arguments)
+    test.assertIs(first.__class__, list)
     first.append("spoilt")
     second = function(*arguments)
     test.assertIsNot(second, first)
     test.assertEqual(second, kept)
 
 
-def check_new_lists_inside(test, function, *arguments):
-    """Checks that the lists inside a returned tuple are new ones on each call."""
-    first = function(*arguments)
-    kept = copy.deepcopy(first)
-    test.assertIs(first.__class__, tuple)
-    for item in first:
-        if isinstance(item, list):
-            item.append("spoilt")
-    test.assertEqual(function(*arguments), kept)
+def replaced(thing, at, value):
+    return thing.__class__([*thing[:at], value, *thing[at + 1:]])
 
 
 def spoilt(thing):
     """A list or tuple with each item in turn replaced by values of all kinds, and with items too few or too many."""
-    make = thing.__class__
-    yield make(thing[:-1])
-    yield make(thing[1:])
-    yield make([*thing, *thing[:1]])
+    yield thing[:-1]
+    yield thing[1:]
+    yield thing.__class__([*thing, *thing[:1]])
     for at in range(len(thing)):
         for value in all_kinds():
-            yield make([*thing[:at], value, *thing[at + 1:]])
+            yield replaced(thing, at, value)
+
+
+def spoilt_inside(thing):
+    """The same of a list or tuple, and of the lists and tuples inside it."""
+    yield from spoilt(thing)
+    for at, item in enumerate(thing):
+        if isinstance(item, (list, tuple)):
+            for value in spoilt(item):
+                yield replaced(thing, at, value)
 
 
 def check_judge(test, judge, plain, loom, things):
     """Checks that a judge tells True or False of each thing, the same as a plain one, and counts both."""
-    told = {True: 0, False: 0}
+    told = Counter()
     for thing in things:
         answer = judge(loom, thing)
         test.assertIs(answer, bool(plain(loom, thing)), (loom.arcs, thing))

@@ -3,12 +3,13 @@
 import copy
 import random
 import unittest
+from collections import Counter
 
 from onewayread.looms import Loom, met
 from onewayread.rests import double, is_double, one_way
 from onewayread.rows import count, readings, text_of
 
-from tests.helpers import TimedCase, all_kinds, check_judge, check_new_lists_inside, spoilt
+from tests.helpers import TimedCase, all_kinds, check_judge, check_new_lists_inside, spoilt_inside
 from tests.plain_rests import plain_is_double, plain_shortest_double, rows_of_arcs
 from tests.plain_search import some_loom
 
@@ -87,6 +88,17 @@ class OneWay(TimedCase):
         self.check("ab", arcs + [(63, "a", 32)], None)
         # The end of the first road is passed at 31, 62 and so on, that of the second one at 32, 64 and so on.
         self.check("ab", arcs + [(63, "a", 32), (31, "b", 0), (63, "b", 0)], 31 * 32 + 1)
+
+    def test_rows_may_not_be_too_long(self):
+        # Of two doubles with texts of one length, one has a row of more than 2000 arcs.
+        for last in [[(19, "b", 62), (19, "b", 63), (22, "b", 62), (47, "b", 63)],
+                     [(19, "b", 63), (19, "b", 62), (22, "b", 63), (47, "b", 62)]]:
+            for first in [[1, 20, 23], [23, 20, 1]]:
+                arcs = [(0, "a", state) for state in first]
+                arcs += [(1 + at, "a" * 11, 1 + (at + 1) % 19) for at in range(19)]
+                arcs += [(20 + at, "a" * 12, 20 + (at + 1) % 3) for at in range(3)]
+                arcs += [(23 + at, "a", 23 + (at + 1) % 36) for at in range(36)]
+                self.check("ab", arcs + last, 1 + 11 * (18 + 30 * 19) + 1)
 
     def test_against_all_rows_of_short_texts(self):
         chance = random.Random(21)
@@ -179,27 +191,24 @@ class IsDouble(TimedCase):
     def test_things_of_all_kinds(self):
         for value in all_kinds():
             self.assertIs(is_double(DOUBLE, value), False)
-        for thing in [[0, [0, 2], [1, 0]], (0, [0, 2]), (0, [0, 2], [1, 0], 0), ((0, [0, 2], [1, 0]),), (0, "ab", "ab")]:
+        good = (0, [0, 2], [1, 0])
+        for thing in [list(good), good[:2], (*good, 0), (good,), (0, "ab", "ab"), (0, {0, 2}, [1, 0])]:
             self.assertIs(is_double(DOUBLE, thing), False)
 
     def test_doubles_that_are_spoilt(self):
-        for loom, told in [(DOUBLE, (0, [0, 2], [1, 0])), (EQUAL, (0, (0,), (1,)))]:
-            things = list(spoilt(told))
-            for at in [1, 2]:
-                things += [(*told[:at], row, *told[at + 1:]) for row in spoilt(told[at])]
-            told = check_judge(self, is_double, plain_is_double, loom, things)
+        for loom, thing in [(DOUBLE, (0, [0, 2], [1, 0])), (EQUAL, (0, (0,), (1,)))]:
+            told = check_judge(self, is_double, plain_is_double, loom, spoilt_inside(thing))
             self.assertGreater(told[False], 500)
 
     def test_all_pairs_of_short_rows(self):
         chance = random.Random(27)
-        told = {True: 0, False: 0}
+        told = Counter()
         for _ in range(150):
             loom, states = some_loom(chance)
             for state in states:
                 rows = [row for row, _, _ in rows_of_arcs(loom, state, 3)][:25]
                 things = [(state, one, other) for one in rows for other in rows]
-                counts = check_judge(self, is_double, plain_is_double, loom, things)
-                told = {answer: told[answer] + counts[answer] for answer in told}
+                told += check_judge(self, is_double, plain_is_double, loom, things)
         self.assertGreater(min(told.values()), 300)
 
     def test_things_are_not_changed(self):

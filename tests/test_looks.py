@@ -3,13 +3,14 @@
 import copy
 import random
 import unittest
+from collections import Counter
 
 from onewayread.looks import is_covered, longest_covered, look, ring
 from onewayread.looms import Loom, met
 from onewayread.rests import double
 from onewayread.rows import sure
 
-from tests.helpers import TimedCase, all_kinds, check_judge, check_new_lists_inside, spoilt
+from tests.helpers import TimedCase, all_kinds, check_judge, check_new_lists_inside, spoilt_inside
 from tests.plain_rests import plain_is_covered, plain_most_covered, rows_of_arcs
 from tests.plain_search import some_loom
 
@@ -110,6 +111,16 @@ class Look(TimedCase):
         self.check("ab", TWO.arcs, 4)
         self.check("ab", TWO.arcs[:5], 3)
         self.assertEqual(longest_covered(Loom("ab", [(0, "a", 1), (0, "ab", 2)])), (0, [0], [1]))
+
+    def test_the_other_row_may_come_to_the_end_last(self):
+        # The other row is behind until its last arc, and has fewer arcs.
+        arcs = [(0, "a", 1), (1, "a", 2), (2, "bb", 3), (0, "aab", 4), (4, "b", 5)]
+        self.check("ab", arcs, 3)
+        self.assertEqual(longest_covered(Loom("ab", arcs)), (0, [0, 1, 2], [3, 4]))
+        self.check("ab", arcs[:4], 2)
+        self.check("ab", arcs[:4] + [(4, "bb", 5)], 3)
+        self.check("ab", arcs[::-1], 3)
+        self.check("ab", arcs + [(5, "b", 6), (3, "bbb", 7), (6, "bb", 8)], 4)
 
     def test_a_loom_without_an_end_whose_rows_part(self):
         arcs = [(0, "a", 1), (0, "a", 2), (1, "a", 3), (2, "a", 4), (3, "a", 3), (4, "b", 4)]
@@ -230,22 +241,18 @@ class IsCovered(TimedCase):
 
     def test_covered_rows_that_are_spoilt(self):
         for thing in [(0, [0], [1]), (0, (0, 2), (1, 2)), (0, [1], (0, 2, 2))]:
-            things = list(spoilt(thing))
-            for at in [1, 2]:
-                things += [(*thing[:at], row, *thing[at + 1:]) for row in spoilt(thing[at])]
-            told = check_judge(self, is_covered, plain_is_covered, ENDLESS, things)
+            told = check_judge(self, is_covered, plain_is_covered, ENDLESS, spoilt_inside(thing))
             self.assertGreater(told[False], 300)
 
     def test_all_pairs_of_short_rows(self):
         chance = random.Random(232)
-        told = {True: 0, False: 0}
+        told = Counter()
         for _ in range(150):
             loom, states = some_loom(chance)
             for state in states:
                 rows = [row for row, _, _ in rows_of_arcs(loom, state, 3)][:25]
                 things = [(state, row, other) for row in rows for other in rows]
-                counts = check_judge(self, is_covered, plain_is_covered, loom, things)
-                told = {answer: told[answer] + counts[answer] for answer in told}
+                told += check_judge(self, is_covered, plain_is_covered, loom, things)
         self.assertGreater(min(told.values()), 300)
 
     def test_things_are_not_changed(self):

@@ -3,12 +3,13 @@
 import copy
 import random
 import unittest
+from collections import Counter
 
 from onewayread.looks import is_covered, is_ring, look, ring
 from onewayread.looms import Loom
 from onewayread.rows import end_of, is_row, text_of
 
-from tests.helpers import TimedCase, all_kinds, check_judge, check_new_lists_inside, spoilt
+from tests.helpers import TimedCase, all_kinds, check_judge, check_new_lists_inside, spoilt_inside
 from tests.plain_rests import plain_is_ring, rows_of_arcs
 from tests.plain_search import some_loom
 
@@ -79,7 +80,7 @@ class Ring(TimedCase):
         self.check(loom)
 
     def test_behind_rows_that_cover_for_long(self):
-        line = [(state, "a", state + 1) for state in range(1, 30)] + [(state, "a", state + 1) for state in range(31, 60)]
+        line = [(state, "a", state + 1) for state in range(1, 60) if state != 30]
         roads = [(0, "a", 1), (0, "a", 31), (30, "ab", 30), (60, "a", 61), (61, "ba", 61)]
         told = self.check(Loom("ab", roads + line))
         self.assertGreaterEqual(len(told[1]), 30)
@@ -141,7 +142,8 @@ class IsRing(TimedCase):
             self.assertIs(is_ring(ENDLESS, (0, [0], [1], again, more)), False)
 
     def test_the_texts_have_to_fit(self):
-        loom = Loom("ab", [(0, "a", 1), (0, "ab", 2), (1, "bc"[:1], 1), (2, "b", 2), (2, "a", 2), (1, "ba", 1), (2, "ab", 2)])
+        arcs = [(0, "a", 1), (0, "ab", 2), (1, "b", 1), (2, "b", 2), (2, "a", 2), (1, "ba", 1), (2, "ab", 2)]
+        loom = Loom("ab", arcs)
         self.assertIs(is_ring(loom, (0, [0], [1], [2], [3])), True)
         self.assertIs(is_ring(loom, (0, [0], [1], [2], [4])), False)
         self.assertIs(is_ring(loom, (0, [0], [1], [2, 2], [3])), False)
@@ -200,16 +202,14 @@ class IsRing(TimedCase):
 
     def test_rings_that_are_spoilt(self):
         for loom in [ENDLESS, ROADS, UNLIKE]:
-            told = ring(loom)
-            things = list(spoilt(told)) + list(spoilt((told[0], *[tuple(row) for row in told[1:]])))
-            for at in range(1, 5):
-                things += [(*told[:at], row, *told[at + 1:]) for row in spoilt(told[at])]
-            counts = check_judge(self, is_ring, plain_is_ring, loom, things)
-            self.assertGreater(counts[False], 1000)
+            state, *rows = ring(loom)
+            for thing in [(state, *rows), (state, *[tuple(row) for row in rows])]:
+                told = check_judge(self, is_ring, plain_is_ring, loom, spoilt_inside(thing))
+                self.assertGreater(told[False], 800)
 
     def test_rings_of_short_rows_against_a_plain_judge(self):
         chance = random.Random(241)
-        told = {True: 0, False: 0}
+        told = Counter()
         for _ in range(250):
             loom, _ = some_loom(chance)
             rows = [(row, end) for row, _, end in rows_of_arcs(loom, 0, 2) if row][:12]
@@ -219,8 +219,7 @@ class IsRing(TimedCase):
                     rounds = [again for again, _, _ in rows_of_arcs(loom, end, 2)][:8]
                     others = [more for more, _, _ in rows_of_arcs(loom, longer_end, 2)][:8]
                     things += [(0, row, other, again, more) for again in rounds for more in others]
-            counts = check_judge(self, is_ring, plain_is_ring, loom, chance.sample(things, min(600, len(things))))
-            told = {answer: told[answer] + counts[answer] for answer in told}
+            told += check_judge(self, is_ring, plain_is_ring, loom, chance.sample(things, min(600, len(things))))
         self.assertGreater(min(told.values()), 100)
 
     def test_things_are_not_changed(self):
