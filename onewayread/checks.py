@@ -1,6 +1,6 @@
 """What the parts of looms have to be, told for any value that may come."""
 
-from onewayread.errors import InvalidText, UnknownState
+from onewayread.errors import InvalidLoom, InvalidText, UnknownState
 
 MOST_SIGNS = 4
 LONGEST_WORD = 12
@@ -37,6 +37,25 @@ def is_string_over(signs, thing, fewest, most):
 def is_word(signs, thing):
     """Tells whether something is a word over the signs."""
     return is_string_over(signs, thing, 1, LONGEST_WORD)
+
+
+def first_wrong(thing, most, low, high):
+    """None for a list or tuple of 1 to so many integers from low to high, else where it is wrong.
+
+    That is -1, or the index of the first item that is no such integer.
+    """
+    if not is_sequence(thing, 1, most):
+        return -1
+    for at, item in enumerate(thing):
+        if not is_number(item, low, high):
+            return at
+    return None
+
+
+def check_signs(signs):
+    """Raises InvalidLoom for what are no signs."""
+    if not is_signs(signs):
+        raise InvalidLoom("signs", -1)
 
 
 def check_state(state):

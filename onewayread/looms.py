@@ -1,6 +1,6 @@
 """Looms: states, and arcs of words that lead from one state to another."""
 
-from onewayread.checks import LAST_STATE, check_state, is_number, is_sequence, is_signs, is_word
+from onewayread.checks import LAST_STATE, check_signs, check_state, is_number, is_sequence, is_word
 from onewayread.errors import InvalidLoom
 
 MOST_ARCS = 200
@@ -18,8 +18,7 @@ class Loom:
     """Signs, and a tuple of the arcs (state, word, next) in their order."""
 
     def __init__(self, signs, arcs):
-        if not is_signs(signs):
-            raise InvalidLoom("signs", -1)
+        check_signs(signs)
         if not is_sequence(arcs, 1, MOST_ARCS):
             raise InvalidLoom("arcs", -1)
         for at, arc in enumerate(arcs):

@@ -75,6 +75,13 @@ def no_states():
     return [value for value in all_kinds() if not is_state(value)]
 
 
+def no_signs():
+    """What are no signs: values of all kinds, and strings of wrong or unordered letters."""
+    right = ["a", "ab", "abc"]
+    strings = ["aba", "acb", "aab", "abb", "aB", "AB", "a1", "1", "a~", " a", "ab ", "ab\n", "\nab", "edcba", "bca"]
+    return [value for value in all_kinds() if not (isinstance(value, str) and value in right)] + strings
+
+
 def no_texts(signs):
     return [value for value in all_kinds() if not is_string_over(signs, value, 0, 2000)]
 

@@ -3,9 +3,13 @@
 import inspect
 import unittest
 
-from onewayread import looks, looms, rests as rest_file, rows, takers
+from onewayread import books, joins, looks, looms, prices, readers, rests as rest_file, rows, takers
+from onewayread.books import barred, book, is_book, is_full, sum_of, words
+from onewayread.joins import apart, base, joined, same_texts
 from onewayread.looks import is_covered, is_ring, longest_covered, look, ring
 from onewayread.looms import Loom, leaving, met
+from onewayread.prices import book_of_lengths, cheapest, cheapest_book, cheapest_in_order, cheapest_within, price
+from onewayread.readers import go, is_never, is_plain, meeting, never, standings
 from onewayread.rests import closed, double, is_closed, is_double, one_way, rests
 from onewayread.rows import count, end_of, is_row, readings, sure, text_of
 from onewayread.takers import Reader
@@ -24,10 +28,22 @@ FUNCTIONS = [
     (rest_file, "is_closed", ["loom", "thing"]),
     (looks, "look", ["loom"]), (looks, "is_covered", ["loom", "thing"]), (looks, "longest_covered", ["loom"]),
     (looks, "ring", ["loom"]), (looks, "is_ring", ["loom", "thing"]),
+    (books, "book", ["signs", "words"]), (books, "words", ["a_book"]), (books, "is_book", ["thing"]),
+    (books, "sum_of", ["a_book"]), (books, "barred", ["a_book"]), (books, "is_full", ["a_book"]),
+    (joins, "base", ["a_book"]), (joins, "same_texts", ["one", "other"]), (joins, "joined", ["a_book", "outer"]),
+    (joins, "apart", ["a_book", "inner"]),
+    (readers, "is_plain", ["a_book"]), (readers, "standings", ["a_book"]),
+    (readers, "go", ["a_book", "standing", "text"]), (readers, "meeting", ["a_book"]),
+    (readers, "never", ["a_book"]), (readers, "is_never", ["a_book", "thing"]),
+    (prices, "book_of_lengths", ["signs", "lengths"]), (prices, "price", ["a_book", "weights"]),
+    (prices, "cheapest", ["signs", "weights"]), (prices, "cheapest_within", ["signs", "weights", "most"]),
+    (prices, "cheapest_in_order", ["signs", "weights"]), (prices, "cheapest_book", ["signs", "weights"]),
 ]
 METHODS = {"take": ["self", "sign"], "told": ["self"], "text": ["self"], "twin": ["self"]}
 ENDLESS = Loom("ab", [(0, "a", 0), (0, "ab", 0), (0, "bb", 0)])
 EQUAL = Loom("a", [(0, "a", 1), (0, "a", 1)])
+PLAIN = book("ab", ["b", "aa", "ab"])
+EVEN = book("ab", ["aa", "ab", "ba", "bb"])
 
 
 class Interface(TimedCase):
@@ -78,6 +94,27 @@ class Interface(TimedCase):
         self.assertIsNone(ring(loom=EQUAL))
         self.assertIs(is_ring(thing=(0, [0], [1], [2], [2]), loom=ENDLESS), True)
 
+    def test_arguments_by_name_of_books_and_prices(self):
+        made = book(words=["b", "aa", "ab"], signs="ab")
+        self.assertEqual(made, PLAIN)
+        self.assertEqual([words(a_book=made), is_book(thing=made), sum_of(a_book=made)],
+                         [["b", "aa", "ab"], True, (1, 1)])
+        self.assertEqual([barred(a_book=made), is_full(a_book=made)], [None, True])
+        self.assertEqual(base(a_book=made), ["b", "aa", "ab"])
+        self.assertIsNone(same_texts(other=made, one=made))
+        outer = book("abc", ["b", "c", "a"])
+        self.assertEqual(joined(outer=outer, a_book=made), book("ab", ["aa", "ab", "b"]))
+        self.assertEqual(apart(inner=made, a_book=book("ab", ["aa", "ab", "b"])), outer)
+        self.assertEqual([is_plain(a_book=made), standings(a_book=made)], [True, ["", "a"]])
+        self.assertEqual(go(text="ba", standing="a", a_book=made), ("a", [2]))
+        self.assertEqual([meeting(a_book=made), never(a_book=made)], ["b", []])
+        self.assertIs(is_never(thing=[("", "a"), ("b", "")], a_book=EVEN), True)
+        self.assertEqual(book_of_lengths(lengths=[1, 2], signs="ab"), book("ab", ["a", "ba"]))
+        self.assertEqual(price(weights=[1, 1, 1], a_book=made), 5)
+        self.assertEqual([cheapest(weights=[1, 2], signs="ab"), cheapest_within(most=1, weights=[1, 2], signs="ab"),
+                          cheapest_in_order(weights=[1, 2], signs="ab")], [3, 3, 3])
+        self.assertEqual(price(cheapest_book(weights=[1, 2], signs="ab"), [1, 2]), 3)
+
     def test_kinds_of_values(self):
         self.assertIs(LOOM.signs.__class__, str)
         self.assertIs(LOOM.arcs.__class__, tuple)
@@ -106,6 +143,22 @@ class Interface(TimedCase):
         self.assertEqual([value.__class__ for value in longest_covered(EQUAL)], [int, list, list])
         self.assertEqual([value.__class__ for value in ring(ENDLESS)], [int, list, list, list, list])
 
+    def test_kinds_of_values_of_books_and_prices(self):
+        self.assertEqual([book("ab", ["a"]).__class__, words(PLAIN).__class__, sum_of(PLAIN).__class__],
+                         [Loom, list, tuple])
+        self.assertEqual([is_book(PLAIN).__class__, is_full(PLAIN).__class__, is_plain(PLAIN).__class__], [bool] * 3)
+        self.assertEqual([barred(book("ab", ["a"])).__class__, base(PLAIN).__class__], [str, list])
+        self.assertIs(same_texts(PLAIN, book("ab", ["a"])).__class__, str)
+        self.assertEqual([standings(PLAIN).__class__, go(PLAIN, "", "ab").__class__, go(PLAIN, "", "ab")[1].__class__],
+                         [list, tuple, list])
+        self.assertEqual([meeting(PLAIN).__class__, never(EVEN).__class__], [str, list])
+        self.assertIs(never(EVEN)[0].__class__, tuple)
+        self.assertEqual([is_never(EVEN, never(EVEN)), is_never(EVEN, [])], [True, False])
+        self.assertEqual([book_of_lengths("ab", [1]).__class__, cheapest_book("ab", [1, 2]).__class__], [Loom, Loom])
+        told = [price(PLAIN, [0, 0, 0]), cheapest("ab", [0, 0]), cheapest_within("ab", [0], 1),
+                cheapest_in_order("ab", [0, 0, 0])]
+        self.assertEqual([[value, value.__class__] for value in told], [[0, int]] * 4)
+
 
 class WorkedExamples(TimedCase):
     def test_the_first_one(self):
@@ -127,6 +180,29 @@ class WorkedExamples(TimedCase):
         endless = Loom("ab", [(0, "a", 0), (0, "ab", 0), (0, "bb", 0)])
         looms_told = [endless, Loom("a", [(0, "a", 1), (0, "a", 1)]), Loom("ab", [(0, "a", 0), (0, "b", 0)])]
         self.assertEqual([look(loom) for loom in looms_told], [None, 1, 0])
+
+    def test_the_fifth_one(self):
+        made = book("ab", ["aa", "ab", "b"])
+        told = [sum_of(made), barred(made), is_full(made), barred(book("ab", ["aa", "b"]))]
+        self.assertEqual(told, [(1, 1), None, True, "bab"])
+
+    def test_the_sixth_one(self):
+        inner = book("ab", ["aa", "b"])
+        made = joined(inner, book("xy", ["xy", "y"]))
+        told = [base(book("ab", ["ab", "a", "aab", "b", "a"])),
+                same_texts(book("ab", ["a", "ab"]), book("ab", ["a", "aab"])), words(made), words(apart(made, inner))]
+        self.assertEqual(told, [["a", "b"], "ab", ["aab", "b"], ["ab", "b"]])
+
+    def test_the_seventh_and_the_eighth_one(self):
+        plain = book("ab", ["b", "aa", "ab"])
+        told = [standings(plain), go(plain, "", "baab"), meeting(plain), never(plain)]
+        self.assertEqual(told, [["", "a"], ("", [0, 1, 0]), "b", []])
+        self.assertEqual(never(book("ab", ["aa", "ab", "ba", "bb"])), [("", "a"), ("", "b")])
+
+    def test_the_ninth_one(self):
+        told = [words(book_of_lengths("ab", [3, 1, 2, 3])), cheapest("ab", [5, 1, 1, 5]),
+                cheapest_within("ab", [5, 1, 1, 5], 2), cheapest_in_order("ab", [1, 5, 5, 1]), cheapest("a", [3, 4])]
+        self.assertEqual(told, [["bba", "a", "ba", "bbb"], 21, 24, 24, None])
 
 
 if __name__ == "__main__":
