@@ -52,9 +52,8 @@ def same_texts(one, other):
 
 def joined(a_book, outer):
     """The book with the words of outer, a word of the first book in the place of each sign."""
-    check_book(a_book)
-    check_book(outer)
     told = words(a_book)
+    check_book(outer)
     if len(outer.signs) != len(told):
         raise Unlike()
     made = ["".join([told[outer.signs.index(sign)] for sign in word]) for word in words(outer)]

@@ -129,7 +129,8 @@ def least_cut(trees, begin, end, many):
 def cheapest_trees(branches, weights):
     """By (begin, end, many): the least price of the words from begin to end below at most so many branches.
 
-    Below one branch, all of several words stand below one beginning, which has two branches or more.
+    Below one branch, all of several words stand below one beginning, which has two branches or
+    more: the first one has a tree of its own, and the others are left for the other branches.
     """
     trees = {}
     for size in range(1, len(weights) + 1):
@@ -139,7 +140,7 @@ def cheapest_trees(branches, weights):
             if size > 1:
                 whole = sum(weights[begin:end]) + least_cut(trees, begin, end, branches - 1)
             trees[(begin, end, 1)] = whole
-            for many in range(2, branches + 1):
+            for many in range(2, branches):
                 cut = whole if size == 1 else least_cut(trees, begin, end, many - 1)
                 trees[(begin, end, many)] = min(whole, cut)
     return trees

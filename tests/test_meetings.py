@@ -150,6 +150,12 @@ class IsNever(TimedCase):
         self.assertIs(is_never(EVEN, [("", "a"), ("", "b"), ("a", "b")]), False)
         self.assertIs(is_never(PLAIN, [("", "a")]), False)
 
+    def test_one_standing_twice_is_no_pair(self):
+        same = [("", ""), ("a", "a"), ("b", "b")]
+        self.assertIs(is_never(EVEN, same), False)
+        self.assertIs(is_never(EVEN, same + never(EVEN)), False)
+        self.assertIs(is_never(book("ab", ["a", "b"]), [("", "")]), False)
+
     def test_not_all_pairs_are_needed(self):
         made = book("a", ["a" * 4])
         for thing in [[("", "aa"), ("a", "aaa")], [("aa", ""), ("aaa", "a")], never(made)]:
