@@ -101,7 +101,8 @@ def never(a_book):
                 meets[pair] = True
                 waiting.append(pair)
     while waiting:
-        for pair in before[waiting.pop()]:
+        goal = waiting.pop()
+        for pair in before[goal]:
             if pair not in meets:
                 meets[pair] = True
                 waiting.append(pair)
