@@ -4,6 +4,7 @@ import copy
 import signal
 import unittest
 from collections import Counter
+from fractions import Fraction
 
 from onewayread import errors
 from onewayread.looms import Loom
@@ -88,6 +89,12 @@ def no_texts(signs):
 
 def no_sequences():
     return [value for value in all_kinds() if not isinstance(value, (list, tuple))]
+
+
+def no_integers(low, high):
+    """What are no integers from low to high: values of all kinds, and numbers of all kinds near by."""
+    near = [low - 1, high + 1, -low - 1, float(low), Fraction(low), str(low), [low], (low,), 2 ** 64 + low]
+    return near + [value for value in all_kinds() if not (value.__class__ is int and low <= value <= high)]
 
 
 def check_error(test, kind, told, function, *arguments):
