@@ -3,8 +3,11 @@
 import inspect
 import unittest
 
-from onewayread import books, joins, looks, looms, prices, readers, rests as rest_file, rows, takers
+from onewayread import books, growth, healing, joins, looks, looms, prices, readers, rests as rest_file, rows, takers
+from onewayread import wires
 from onewayread.books import barred, book, is_book, is_full, sum_of, words
+from onewayread.growth import grows, is_growing, is_shrinking, shrinks
+from onewayread.healing import heals, is_stays, stays
 from onewayread.joins import apart, base, joined, same_texts
 from onewayread.looks import is_covered, is_ring, longest_covered, look, ring
 from onewayread.looms import Loom, leaving, met
@@ -13,6 +16,7 @@ from onewayread.readers import go, is_never, is_plain, meeting, never, standings
 from onewayread.rests import closed, double, is_closed, is_double, one_way, rests
 from onewayread.rows import count, end_of, is_row, readings, sure, text_of
 from onewayread.takers import Reader
+from onewayread.wires import is_wire, least, many, parted, rows_between, wire_of
 
 from tests.helpers import TimedCase
 
@@ -38,12 +42,21 @@ FUNCTIONS = [
     (prices, "book_of_lengths", ["signs", "lengths"]), (prices, "price", ["a_book", "weights"]),
     (prices, "cheapest", ["signs", "weights"]), (prices, "cheapest_within", ["signs", "weights", "most"]),
     (prices, "cheapest_in_order", ["signs", "weights"]), (prices, "cheapest_book", ["signs", "weights"]),
+    (wires, "is_wire", ["thing"]), (wires, "wire_of", ["signs", "bars"]), (wires, "least", ["wire"]),
+    (wires, "parted", ["one", "other"]), (wires, "many", ["wire", "length"]),
+    (wires, "rows_between", ["wire", "span"]),
+    (healing, "heals", ["a_book", "wire"]), (healing, "stays", ["a_book", "wire"]),
+    (healing, "is_stays", ["a_book", "wire", "thing"]),
+    (growth, "is_growing", ["wire", "span", "choices", "thing"]),
+    (growth, "is_shrinking", ["wire", "span", "choices", "thing"]),
+    (growth, "grows", ["wire", "span", "choices"]), (growth, "shrinks", ["wire", "span", "choices"]),
 ]
 METHODS = {"take": ["self", "sign"], "told": ["self"], "text": ["self"], "twin": ["self"]}
 ENDLESS = Loom("ab", [(0, "a", 0), (0, "ab", 0), (0, "bb", 0)])
 EQUAL = Loom("a", [(0, "a", 1), (0, "a", 1)])
 PLAIN = book("ab", ["b", "aa", "ab"])
 EVEN = book("ab", ["aa", "ab", "ba", "bb"])
+GOLDEN = wire_of("ab", ["bb"])
 
 
 class Interface(TimedCase):
@@ -115,6 +128,18 @@ class Interface(TimedCase):
                           cheapest_in_order(weights=[1, 2], signs="ab")], [3, 3, 3])
         self.assertEqual(price(cheapest_book(weights=[1, 2], signs="ab"), [1, 2]), 3)
 
+    def test_arguments_by_name_of_wires(self):
+        self.assertEqual([is_wire(thing=GOLDEN), wire_of(bars=["bb"], signs="ab")], [True, GOLDEN])
+        self.assertEqual([least(wire=GOLDEN), parted(other=GOLDEN, one=wire_of("ab", []))], [GOLDEN, "bb"])
+        self.assertEqual([many(length=3, wire=GOLDEN), rows_between(span=3, wire=GOLDEN)], [5, [[3, 2], [2, 1]]])
+        self.assertEqual(heals(wire=GOLDEN, a_book=PLAIN), None)
+        self.assertEqual(heals(wire=wire_of("ab", ["aa"]), a_book=PLAIN), 2)
+        self.assertIs(is_stays(thing=stays(wire=GOLDEN, a_book=PLAIN), wire=GOLDEN, a_book=PLAIN), True)
+        self.assertIs(is_growing(thing=[5, 3], choices=11, span=5, wire=GOLDEN), True)
+        self.assertIs(is_shrinking(thing=[3, 2], choices=2, span=1, wire=GOLDEN), True)
+        self.assertEqual([grows(choices=11, span=5, wire=GOLDEN), shrinks(choices=2, span=2, wire=GOLDEN)],
+                         [[8, 5], None])
+
     def test_kinds_of_values(self):
         self.assertIs(LOOM.signs.__class__, str)
         self.assertIs(LOOM.arcs.__class__, tuple)
@@ -159,50 +184,18 @@ class Interface(TimedCase):
                 cheapest_in_order("ab", [0, 0, 0])]
         self.assertEqual([[value, value.__class__] for value in told], [[0, int]] * 4)
 
-
-class WorkedExamples(TimedCase):
-    def test_the_first_one(self):
-        loom = Loom("ab", [(0, "a", 0), (0, "ab", 1), (1, "b", 0), (0, "bb", 0)])
-        told = [readings(loom, 0, "abb"), count(loom, 0, "abbb"), sure(loom, 0, "ab"), sure(loom, 1, "a")]
-        self.assertEqual(told, [[[0, 3], [1, 2]], 0, [], None])
-
-    def test_the_second_one(self):
-        reader = Reader(Loom("ab", [(0, "aab", 0), (0, "b", 0)]), 0)
-        told = [reader.take("b"), reader.take("a"), reader.take("a"), reader.told(), reader.text()]
-        self.assertEqual(told, [[1], [0], [], [1, 0], "baa"])
-
-    def test_the_third_one(self):
-        loom = Loom("ab", [(0, "a", 0), (0, "ab", 0), (0, "bb", 0)])
-        told = [one_way(loom), rests(loom), closed(loom) == rests(loom)]
-        self.assertEqual(told, [True, [(0, 0, "b")], True])
-
-    def test_the_fourth_one(self):
-        endless = Loom("ab", [(0, "a", 0), (0, "ab", 0), (0, "bb", 0)])
-        looms_told = [endless, Loom("a", [(0, "a", 1), (0, "a", 1)]), Loom("ab", [(0, "a", 0), (0, "b", 0)])]
-        self.assertEqual([look(loom) for loom in looms_told], [None, 1, 0])
-
-    def test_the_fifth_one(self):
-        made = book("ab", ["aa", "ab", "b"])
-        told = [sum_of(made), barred(made), is_full(made), barred(book("ab", ["aa", "b"]))]
-        self.assertEqual(told, [(1, 1), None, True, "bab"])
-
-    def test_the_sixth_one(self):
-        inner = book("ab", ["aa", "b"])
-        made = joined(inner, book("xy", ["xy", "y"]))
-        told = [base(book("ab", ["ab", "a", "aab", "b", "a"])),
-                same_texts(book("ab", ["a", "ab"]), book("ab", ["a", "aab"])), words(made), words(apart(made, inner))]
-        self.assertEqual(told, [["a", "b"], "ab", ["aab", "b"], ["ab", "b"]])
-
-    def test_the_seventh_and_the_eighth_one(self):
-        plain = book("ab", ["b", "aa", "ab"])
-        told = [standings(plain), go(plain, "", "baab"), meeting(plain), never(plain)]
-        self.assertEqual(told, [["", "a"], ("", [0, 1, 0]), "b", []])
-        self.assertEqual(never(book("ab", ["aa", "ab", "ba", "bb"])), [("", "a"), ("", "b")])
-
-    def test_the_ninth_one(self):
-        told = [words(book_of_lengths("ab", [3, 1, 2, 3])), cheapest("ab", [5, 1, 1, 5]),
-                cheapest_within("ab", [5, 1, 1, 5], 2), cheapest_in_order("ab", [1, 5, 5, 1]), cheapest("a", [3, 4])]
-        self.assertEqual(told, [["bba", "a", "ba", "bbb"], 21, 24, 24, None])
+    def test_kinds_of_values_of_wires(self):
+        self.assertEqual([value.__class__ for value in [GOLDEN, least(GOLDEN), is_wire(0), is_wire(GOLDEN)]],
+                         [Loom, Loom, bool, bool])
+        self.assertEqual([many(GOLDEN, 0).__class__, parted(GOLDEN, wire_of("ab", [])).__class__], [int, str])
+        self.assertEqual([rows_between(GOLDEN, 2).__class__, rows_between(GOLDEN, 2)[0].__class__], [list, list])
+        self.assertEqual({number.__class__ for line in rows_between(GOLDEN, 2) for number in line}, {int})
+        self.assertEqual([heals(PLAIN, wire_of("ab", ["aa"])).__class__, stays(PLAIN, GOLDEN).__class__], [int, tuple])
+        self.assertEqual([value.__class__ for value in stays(PLAIN, GOLDEN)], [str, str, int, str])
+        told = [is_stays(PLAIN, GOLDEN, 0), is_growing(GOLDEN, 1, 1, 0), is_shrinking(GOLDEN, 1, 1, 0)]
+        self.assertEqual([value.__class__ for value in told], [bool] * 3)
+        for told in [grows(GOLDEN, 1, 1), shrinks(GOLDEN, 1, 2)]:
+            self.assertEqual([told.__class__, *[number.__class__ for number in told]], [list, int, int])
 
 
 if __name__ == "__main__":
