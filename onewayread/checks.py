@@ -39,12 +39,12 @@ def is_word(signs, thing):
     return is_string_over(signs, thing, 1, LONGEST_WORD)
 
 
-def first_wrong(thing, most, low, high):
-    """None for a list or tuple of 1 to so many integers from low to high, else where it is wrong.
+def first_wrong(thing, fewest, most, low, high):
+    """None for a list or tuple of so many integers from low to high, else where it is wrong.
 
     That is -1, or the index of the first item that is no such integer.
     """
-    if not is_sequence(thing, 1, most):
+    if not is_sequence(thing, fewest, most):
         return -1
     for at, item in enumerate(thing):
         if not is_number(item, low, high):

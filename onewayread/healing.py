@@ -4,7 +4,7 @@ from onewayread.checks import LAST_STATE, LONGEST_TEXT, is_number, is_string_ove
 from onewayread.errors import Unlike
 from onewayread.looms import met
 from onewayread.readers import check_plain_full, pair_behind, standings, steps_of_signs
-from onewayread.wires import check_wire, goals_of_signs
+from onewayread.wires import check_wire, end_in, goals_of_signs
 
 
 def check_both(a_book, wire):
@@ -155,15 +155,6 @@ def stays(a_book, wire):
     if len(text) > LONGEST_TEXT:
         text = apart.shortest_round(place)
     return (*place, text)
-
-
-def end_in(table, place, text):
-    """Where steps of signs lead from a place by a text, or None if they come to an end."""
-    for sign in text:
-        if (place, sign) not in table:
-            return None
-        place = table[(place, sign)]
-    return place
 
 
 def is_stays(a_book, wire, thing):

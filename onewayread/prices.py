@@ -11,7 +11,7 @@ GREATEST_WEIGHT = 1000
 
 def check_weights(weights):
     """Raises InvalidWeights for what are no weights."""
-    at = first_wrong(weights, MOST_WEIGHTS, 0, GREATEST_WEIGHT)
+    at = first_wrong(weights, 1, MOST_WEIGHTS, 0, GREATEST_WEIGHT)
     if at is not None:
         raise InvalidWeights(at)
 
@@ -28,7 +28,7 @@ def text_at(signs, place, length):
 def book_of_lengths(signs, lengths):
     """The plain book with words of these lengths, the shortest ones chosen first, or None."""
     check_signs(signs)
-    at = first_wrong(lengths, MOST_LENGTHS, 1, LONGEST_WORD)
+    at = first_wrong(lengths, 1, MOST_LENGTHS, 1, LONGEST_WORD)
     if at is not None:
         raise InvalidLengths(at)
     made = {}

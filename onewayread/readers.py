@@ -35,11 +35,18 @@ def standings(a_book):
 
 def go(a_book, standing, text):
     """Where a reader comes from a standing by a text, with the numbers it tells, or None if it is stuck."""
-    known = {begun: True for begun in standings(a_book)}
+    known = standings(a_book)
     if not isinstance(standing, str) or standing not in known:
         raise UnknownState()
     check_text(a_book.signs, text)
+    place, told = read_on(a_book, standing, text)
+    return None if place is None else (place, told)
+
+
+def read_on(a_book, standing, text):
+    """Where a reader comes from a standing by a text, None if it gets stuck, and the numbers it tells till then."""
     numbers = {word: number for number, word in enumerate(words(a_book))}
+    known = {begun: True for begun in standings(a_book)}
     place = standing
     told = []
     for sign in text:
@@ -48,7 +55,7 @@ def go(a_book, standing, text):
             told.append(numbers[place])
             place = ""
         elif place not in known:
-            return None
+            return None, told
     return place, told
 
 

@@ -36,6 +36,15 @@ def goals_of_signs(wire):
     return {(state, sign): goal for state, sign, goal in wire.arcs}
 
 
+def end_in(table, place, text):
+    """Where steps of signs lead from a place by a text, or None if they come to an end."""
+    for sign in text:
+        if (place, sign) not in table:
+            return None
+        place = table[(place, sign)]
+    return place
+
+
 def check_bars(signs, bars):
     """Raises InvalidLoom for what are no signs, and InvalidBars for what are no bars."""
     check_signs(signs)
