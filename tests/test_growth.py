@@ -333,7 +333,8 @@ class GreatTops(TimedCase):
             low = chance.randint(0, 60), chance.randint(1, 20)
             high = low[0] * 20 + chance.randint(0, 40), low[1] * 20
             most = chance.randint(0, 60)
-            fits = [number for number in range(most + 1) if -(-number * low[0] // low[1]) <= number * high[0] // high[1]]
+            fits = [number for number in range(most + 1)
+                    if -(-number * low[0] // low[1]) <= number * high[0] // high[1]]
             self.assertEqual(last_fit(low, high, most), max(fits))
 
 

@@ -21,6 +21,7 @@ from tests.plain_wires import EMPTY, FULL, GOLDEN, NO_WIRES, SHORT, great_wire, 
 PLAIN = book("ab", ["b", "aa", "ab"])
 EVEN = book("ab", ["aa", "ab", "ba", "bb"])
 SINGLE = book("ab", ["b", "a"])
+LONE = book("a", ["a" * 12])
 NOT_PLAIN = [book("ab", ["a", "ab", "b"]), book("ab", ["a", "b", "b"]), book("ab", ["ab", "a"])]
 NOT_FULL = [book("ab", ["a"]), book("ab", ["aa", "b"]), book("ab", ["a" * 12, "b"])]
 
@@ -161,8 +162,8 @@ class Heals(TimedCase):
 
 class Stays(TimedCase):
     def test_some(self):
-        for a_book, wire in [(PLAIN, FULL), (EVEN, FULL), (EVEN, GOLDEN), (PLAIN, Loom("ab", [(0, "b", 5), (5, "a", 5)])),
-                             (book("a", ["a" * 12]), Loom("a", [(0, "a", 0)]))]:
+        for a_book, wire in [(PLAIN, FULL), (EVEN, FULL), (EVEN, GOLDEN), (LONE, Loom("a", [(0, "a", 0)])),
+                             (PLAIN, Loom("ab", [(0, "b", 5), (5, "a", 5)]))]:
             thing = stays(a_book, wire)
             self.assertTrue(plain_is_stays(a_book, wire, thing), thing)
             self.assertIs(is_stays(a_book, wire, thing), True)
@@ -274,7 +275,8 @@ class IsStays(TimedCase):
             texts = [text for state in met(wire) for length in range(1, 5)
                      for text, _ in plain_texts(wire, state, length)]
             for _ in range(40):
-                thing = (*chance.choices(standings(a_book), k=2), chance.choice(met(wire)), chance.choice(texts or ["a"]))
+                pair = chance.choices(standings(a_book), k=2)
+                thing = (*pair, chance.choice(met(wire)), chance.choice(texts or ["a"]))
                 answer = is_stays(a_book, wire, thing)
                 self.assertIs(answer, plain_is_stays(a_book, wire, thing))
                 told += answer

