@@ -7,9 +7,14 @@ from collections import Counter
 from fractions import Fraction
 
 from onewayread import errors
+from onewayread.books import book
+from onewayread.desk import Desk
 from onewayread.looms import Loom
+from onewayread.pipes import Pipe
+from onewayread.takers import Reader
 
 SECONDS = 60
+PIPE = Pipe(book("ab", ["a"]), 1, Loom("ab", [(0, "a", 0), (0, "b", 0)]), 1)
 ATTRIBUTES = {
     "InvalidLoom": ["part", "at"], "UnknownState": [], "InvalidRow": ["at"], "InvalidText": [], "Stuck": [],
     "NotABook": [], "NotPlain": [], "NotFull": [], "NotOneWay": [], "NotAWire": [], "Unlike": [],
@@ -45,6 +50,13 @@ def generated():
     yield 0
 
 
+def filled_desk():
+    desk = Desk("ab")
+    desk.put("a")
+    desk.put("b")
+    return desk
+
+
 def all_kinds():
     """Values of all kinds that Python has built in, and objects of the program, new on each call."""
     numbers = [-(10 ** 30), -2, -1, 0, 1, 2, 63, 64, 200, 10 ** 30, 0.0, 1.0, float("nan"), float("inf"), 1j]
@@ -59,6 +71,7 @@ def all_kinds():
     classes = [int, str, list, object, bool, tuple, Loom, errors.InvalidRow, list[int], int | str]
     things = [object(), ValueError("a"), property(), staticmethod(len), errors.InvalidRow(0), errors.NotABook()]
     looms = [Loom("a", [(0, "a", 0)]), Loom("ab", [(0, "b", 1), (1, "ab", 0)])]
+    looms += [Reader(looms[0], 0), Desk("ab"), filled_desk(), PIPE]
     deep = [nested(40, lambda inner: [inner]), nested(40, lambda inner: (inner,)), nested(40, lambda inner: {0: inner})]
     rows = [numbers, plain, texts, octets, lists, tuples, tables, steps, calls, classes, things, looms, deep]
     return [value for row in rows for value in row]

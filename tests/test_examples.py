@@ -3,19 +3,24 @@
 import unittest
 
 from onewayread.books import barred, book, is_full, sum_of, words
+from onewayread.desk import Desk
+from onewayread.errors import InvalidPage
 from onewayread.growth import grows, is_growing, is_shrinking, shrinks
 from onewayread.healing import heals, is_stays, stays
 from onewayread.joins import apart, base, joined, same_texts
 from onewayread.looks import look
 from onewayread.looms import Loom
+from onewayread.pages import read_loom, read_row, write_loom, write_row
+from onewayread.pipes import Pipe
 from onewayread.prices import book_of_lengths, cheapest, cheapest_in_order, cheapest_within
 from onewayread.readers import go, meeting, never, standings
 from onewayread.rests import closed, one_way, rests
 from onewayread.rows import count, readings, sure
 from onewayread.takers import Reader
 from onewayread.wires import many, parted, rows_between, wire_of
+from onewayread.writers import is_writer, read_back, written
 
-from tests.helpers import TimedCase
+from tests.helpers import TimedCase, check_error
 
 
 class WorkedExamples(TimedCase):
@@ -80,6 +85,36 @@ class WorkedExamples(TimedCase):
         told = [grows(golden, 1, 2), grows(golden, 2, 2), grows(golden, 3, 4), grows(golden, 5, 11),
                 is_growing(golden, 5, 11, [5, 3]), is_shrinking(golden, 1, 2, [3, 2]), shrinks(golden, 2, 2)]
         self.assertEqual(told, [None, [1, 1], [2, 1], [8, 5], True, True, None])
+
+    def test_the_thirteenth_one(self):
+        made = (Loom("ab", [(0, "aa", 0), (0, "ab", 0)]), (0,))
+        full = Loom("ab", [(0, "a", 0), (0, "b", 0)])
+        told = [is_writer(full, 2, 2, made), is_writer(full, 1, 2, made), written(made, [1, 0, 1]),
+                read_back(made, "abaaab"), read_back(made, "abba")]
+        self.assertEqual(told, [True, False, "abaaab", [1, 0, 1], None])
+
+    def test_the_fourteenth_one(self):
+        pipe = Pipe(book("xy", ["x", "yx", "yy"]), 1, Loom("ab", [(0, "a", 0), (0, "b", 0)]), 2)
+        text = pipe.write([2, 0, 1])
+        self.assertEqual([pipe.read(text, 3), pipe.read(text, 2), pipe.read(text, 0)], [[2, 0, 1], [2, 0], []])
+
+    def test_the_fifteenth_one(self):
+        lines = write_loom(Loom("ab", [(0, "ab", 1), (1, "b", 0)])).split("\n")
+        told = [lines, write_row([3, 0, 12]), write_row(()), read_row("-"), read_row("7 7")]
+        self.assertEqual(told, [["signs ab", "arc 0 ab 1", "arc 1 b 0", ""], "3 0 12", "-", [], [7, 7]])
+
+    def test_the_sixteenth_one(self):
+        check_error(self, InvalidPage, [3], read_loom, "signs ab\narc 0 ab 1\narc 01 b 0\n")
+
+    def test_the_seventeenth_one(self):
+        desk = Desk("ab")
+        desk.put("aa")
+        desk.put("b")
+        desk.fill()
+        row = [len(desk), desk[2], "ab" in desk]
+        desk.undo()
+        desk.attempt([("drop", 0), ("put", "ba"), ("undo",), ("redo",)])
+        self.assertEqual(row + [len(desk), desk[0], desk[1]], [3, "ab", True, 2, "b", "ba"])
 
 
 if __name__ == "__main__":

@@ -4,19 +4,23 @@ import inspect
 import unittest
 
 from onewayread import books, growth, healing, joins, looks, looms, prices, readers, rests as rest_file, rows, takers
-from onewayread import wires
+from onewayread import desk as desk_file, pages, pipes, wires, writers
 from onewayread.books import barred, book, is_book, is_full, sum_of, words
+from onewayread.desk import Desk
 from onewayread.growth import grows, is_growing, is_shrinking, shrinks
 from onewayread.healing import heals, is_stays, stays
 from onewayread.joins import apart, base, joined, same_texts
 from onewayread.looks import is_covered, is_ring, longest_covered, look, ring
 from onewayread.looms import Loom, leaving, met
+from onewayread.pages import read_loom, read_row, write_loom, write_row
+from onewayread.pipes import Pipe
 from onewayread.prices import book_of_lengths, cheapest, cheapest_book, cheapest_in_order, cheapest_within, price
 from onewayread.readers import go, is_never, is_plain, meeting, never, standings
 from onewayread.rests import closed, double, is_closed, is_double, one_way, rests
 from onewayread.rows import count, end_of, is_row, readings, sure, text_of
 from onewayread.takers import Reader
 from onewayread.wires import is_wire, least, many, parted, rows_between, wire_of
+from onewayread.writers import is_writer, read_back, writer, written
 
 from tests.helpers import TimedCase
 
@@ -50,8 +54,21 @@ FUNCTIONS = [
     (growth, "is_growing", ["wire", "span", "choices", "thing"]),
     (growth, "is_shrinking", ["wire", "span", "choices", "thing"]),
     (growth, "grows", ["wire", "span", "choices"]), (growth, "shrinks", ["wire", "span", "choices"]),
+    (writers, "writer", ["wire", "span", "choices"]), (writers, "is_writer", ["wire", "span", "choices", "thing"]),
+    (writers, "written", ["made", "numbers"]), (writers, "read_back", ["made", "text"]),
+    (pages, "write_loom", ["loom"]), (pages, "write_row", ["row"]), (pages, "read_loom", ["text"]),
+    (pages, "read_row", ["text"]),
 ]
-METHODS = {"take": ["self", "sign"], "told": ["self"], "text": ["self"], "twin": ["self"]}
+# By classes: the file, the arguments, and the methods with theirs.
+CLASSES = {
+    Loom: (looms, ["signs", "arcs"], {"__eq__": ["other"]}),
+    Reader: (takers, ["loom", "state"], {"take": ["sign"], "told": [], "text": [], "twin": []}),
+    Pipe: (pipes, ["a_book", "group", "wire", "span"], {"write": ["numbers"], "read": ["text", "count"]}),
+    Desk: (desk_file, ["signs"], {
+        "__len__": [], "__getitem__": ["at"], "__contains__": ["x"], "__eq__": ["other"], "__iter__": [], "book": [],
+        "put": ["word"], "drop": ["at"], "turn": ["at", "word"], "put_one_way": ["word"], "fill": [], "undo": [],
+        "redo": [], "attempt": ["deeds"], "twin": []}),
+}
 ENDLESS = Loom("ab", [(0, "a", 0), (0, "ab", 0), (0, "bb", 0)])
 EQUAL = Loom("a", [(0, "a", 1), (0, "a", 1)])
 PLAIN = book("ab", ["b", "aa", "ab"])
@@ -67,18 +84,14 @@ class Interface(TimedCase):
                 self.assertEqual(function.__module__, module.__name__)
                 self.assertEqual(list(inspect.signature(function).parameters), arguments)
 
-    def test_the_loom_is_defined_in_its_file_with_its_own_methods(self):
-        self.assertEqual(Loom.__module__, "onewayread.looms")
-        self.assertEqual(list(inspect.signature(Loom).parameters), ["signs", "arcs"])
-        self.assertIn("__eq__", vars(Loom))
-        self.assertIn("__init__", vars(Loom))
-
-    def test_the_reader_is_defined_in_its_file_with_its_own_methods(self):
-        self.assertEqual(Reader.__module__, "onewayread.takers")
-        self.assertEqual(Reader, takers.Reader)
-        self.assertEqual(list(inspect.signature(Reader).parameters), ["loom", "state"])
-        for name, arguments in METHODS.items():
-            self.assertEqual(list(inspect.signature(vars(Reader)[name]).parameters), arguments)
+    def test_classes_are_defined_in_their_files_with_their_own_methods(self):
+        for made, (module, arguments, methods) in CLASSES.items():
+            with self.subTest(name=made.__name__):
+                self.assertEqual(made.__module__, module.__name__)
+                self.assertEqual(list(inspect.signature(made).parameters), arguments)
+                self.assertIn("__init__", vars(made))
+                for name, names in methods.items():
+                    self.assertEqual(list(inspect.signature(vars(made)[name]).parameters), ["self", *names])
 
     def test_arguments_by_name(self):
         loom = Loom(arcs=LOOM.arcs, signs="ab")
@@ -140,6 +153,27 @@ class Interface(TimedCase):
         self.assertEqual([grows(choices=11, span=5, wire=GOLDEN), shrinks(choices=2, span=2, wire=GOLDEN)],
                          [[8, 5], None])
 
+    def test_arguments_by_name_of_writers_and_pipes(self):
+        made = writer(choices=2, span=2, wire=GOLDEN)
+        self.assertIs(is_writer(thing=made, choices=2, span=2, wire=GOLDEN), True)
+        text = written(numbers=[1, 0], made=made)
+        self.assertEqual(text, written(made, [1, 0]))
+        self.assertEqual(read_back(text=text, made=made), read_back(made, text))
+        pipe = Pipe(span=2, wire=GOLDEN, group=1, a_book=PLAIN)
+        self.assertEqual(pipe.made, made)
+        self.assertEqual(pipe.read(count=2, text=pipe.write(numbers=[2, 0])), [2, 0])
+
+    def test_arguments_by_name_of_pages_and_the_desk(self):
+        self.assertEqual(read_loom(text=write_loom(loom=LOOM)), LOOM)
+        self.assertEqual([write_row(row=[1, 2]), read_row(text="1 2")], ["1 2", [1, 2]])
+        desk = Desk(signs="ab")
+        desk.put(word="ab")
+        desk.put_one_way(word="b")
+        desk.turn(word="aa", at=0)
+        desk.drop(at=1)
+        desk.attempt(deeds=[("put", "b")])
+        self.assertEqual([desk.signs, desk.book()], ["ab", book("ab", ["aa", "b"])])
+
     def test_kinds_of_values(self):
         self.assertIs(LOOM.signs.__class__, str)
         self.assertIs(LOOM.arcs.__class__, tuple)
@@ -196,6 +230,27 @@ class Interface(TimedCase):
         self.assertEqual([value.__class__ for value in told], [bool] * 3)
         for told in [grows(GOLDEN, 1, 1), shrinks(GOLDEN, 1, 2)]:
             self.assertEqual([told.__class__, *[number.__class__ for number in told]], [list, int, int])
+
+    def test_kinds_of_values_of_writers_and_pipes(self):
+        made = writer(GOLDEN, 2, 2)
+        self.assertEqual([made.__class__, made[0].__class__, made[1].__class__], [tuple, Loom, tuple])
+        self.assertEqual([is_writer(GOLDEN, 2, 2, made), is_writer(GOLDEN, 2, 2, None)], [True, False])
+        self.assertEqual([is_writer(GOLDEN, 2, 2, made).__class__, written(made, [0]).__class__], [bool, str])
+        self.assertEqual([read_back(made, "").__class__, read_back(made, "bb")], [list, None])
+        pipe = Pipe(PLAIN, 1, GOLDEN, 2)
+        told = [pipe.made, pipe.write([]), pipe.read("", 0)]
+        self.assertEqual([value.__class__ for value in told], [tuple, str, list])
+
+    def test_kinds_of_values_of_pages_and_the_desk(self):
+        told = [write_loom(LOOM), write_row([]), read_row("-"), read_loom(write_loom(LOOM))]
+        self.assertEqual([value.__class__ for value in told], [str, str, list, Loom])
+        desk = Desk("ab")
+        for call, arguments in [(desk.put, ["a"]), (desk.put_one_way, ["b"]), (desk.turn, [0, "aa"]), (desk.fill, []),
+                                (desk.drop, [0]), (desk.undo, []), (desk.redo, []), (desk.attempt, [[]])]:
+            self.assertIsNone(call(*arguments))
+        self.assertEqual([len(desk), desk[0], "b" in desk, "a" in desk], [2, "b", True, False])
+        self.assertEqual([desk.signs.__class__, desk.book().__class__, desk.twin().__class__], [str, Loom, Desk])
+        self.assertIs((desk == desk.twin()).__class__, bool)
 
 
 if __name__ == "__main__":
