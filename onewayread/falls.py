@@ -67,8 +67,8 @@ class Part:
         self.outside = [[(place, many) for place, many in enumerate(row) if many > 0 and place not in places]
                         for row in lines]
         self.matrix = [[-row[place] for place in places] for row in lines]
-        for at in range(len(places)):
-            self.matrix[at][at] += choices
+        for number in range(len(places)):
+            self.matrix[number][number] += choices
         # Where nothing flows in, all falls to 0 then.
         self.is_dying = inverse(self.matrix) is not None
         self.cone = None if self.is_dying else cone_of(self.matrix)

@@ -37,7 +37,8 @@ class Slips:
         for state, sign, goal in wire.arcs:
             if state in states:
                 self.arcs[sign].append((1 << state, 1 << goal))
-        self.states = {pair: sum([1 << state for state in states]) for pair in self.pairs}
+        whole = sum([1 << state for state in states])
+        self.states = {pair: whole for pair in self.pairs}
         self.known = {}
 
     def from_where(self, sign, goals):

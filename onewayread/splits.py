@@ -41,8 +41,9 @@ def enough_rows(arcs, live, worths, state, enough):
 def sink(rows):
     """Some states that lead to one another, and to no other ones."""
     order = list(rows)
-    goals = [[end for _, end in rows[state]] for state in order]
-    return [order[at] for at in groups([[line.count(state) for state in order] for line in goals])[0]]
+    ends = [[end for _, end in rows[state]] for state in order]
+    matrix = [[line.count(state) for state in order] for line in ends]
+    return [order[at] for at in groups(matrix)[0]]
 
 
 def parcel(worths, choices):
@@ -84,14 +85,15 @@ class Making:
         """Splits a state in two that share its rows and its worth; this row leads to less than its worth."""
         rows = self.rows[state]
         rows = [rows[number], *rows[:number], *rows[number + 1:]]
-        begin, end = parcel([self.worths[goal] for _, goal in rows], self.choices)
-        worth = sum([self.worths[goal] for _, goal in rows[begin:end]]) // self.choices
+        begun, behind = parcel([self.worths[goal] for _, goal in rows], self.choices)
+        taken = rows[begun:behind]
+        worth = sum([self.worths[goal] for _, goal in taken]) // self.choices
         other = len(self.places)
         self.places.append(self.places[state])
         self.worths.append(worth)
-        self.rows.append(rows[begin:end])
+        self.rows.append(taken)
         self.worths[state] -= worth
-        self.rows[state] = rows[:begin] + rows[end:]
+        self.rows[state] = rows[:begun] + rows[behind:]
         # Rows that led to the state lead to both.
         self.rows = [[(text, goal) for text, end in line for goal in ([end, other] if end == state else [end])]
                      for line in self.rows]
