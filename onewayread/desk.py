@@ -2,8 +2,8 @@
 
 from onewayread.books import book
 from onewayread.checks import check_signs, is_number, is_word
-from onewayread.errors import InvalidWord, LimitExceeded, NothingLeft, NotOneWay, NotPlain, ReadError, UnknownWord
-from onewayread.readers import is_plain, standings
+from onewayread.errors import InvalidWord, LimitExceeded, NothingLeft, NotOneWay, ReadError, UnknownWord
+from onewayread.readers import check_plain, standings
 from onewayread.rests import one_way
 from onewayread.texts import shorter_first
 
@@ -98,10 +98,10 @@ class Desk:
 
     def fill(self):
         """Puts the first texts with which a plain book stays plain, until it is full or has twelve words."""
+        a_book = self.book()
+        check_plain(a_book)
         words = list(self._words)
-        if not is_plain(self.book()):
-            raise NotPlain()
-        word = next_word(self.book())
+        word = next_word(a_book)
         while word is not None and len(words) < MOST_WORDS:
             words.append(word)
             word = next_word(book(self.signs, words))
