@@ -82,6 +82,10 @@ class IsWriter(TimedCase):
         wire = Loom("ab", [(0, "a", 0), (9, "a", 9)])
         self.assertIs(is_writer(wire, 1, 1, (Loom("ab", [(0, "a", 0)]), (0,))), True)
         self.assertIs(is_writer(wire, 1, 1, (Loom("ab", [(0, "a", 0)]), (9,))), False)
+        # Also if the other places are.
+        wire = Loom("ab", [(0, "a", 0), (9, "a", 0)])
+        self.assertIs(is_writer(wire, 1, 1, (Loom("ab", [(0, "a", 1), (1, "a", 1)]), (0, 0))), True)
+        self.assertIs(is_writer(wire, 1, 1, (Loom("ab", [(0, "a", 1), (1, "a", 1)]), (9, 0))), False)
 
     def test_there_is_a_look(self):
         self.assertIs(is_writer(FULL, 2, 2, (Loom("ab", [(0, "aa", 0), (0, "aa", 0)]), (0,))), False)
