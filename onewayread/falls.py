@@ -92,7 +92,7 @@ class Part:
         swept = 0
         while self.swept(numbers, flow):
             swept += 1
-            if swept == patience:
+            if swept >= patience:
                 swept = 0
                 lower = self.fallen(numbers, flow)
                 if lower == numbers:

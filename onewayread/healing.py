@@ -166,11 +166,9 @@ def is_stays(a_book, wire, thing):
     one, other, state, text = thing
     if not is_number(state, 0, LAST_STATE) or not is_string_over(wire.signs, text, 1, LONGEST_TEXT):
         return False
-    if not isinstance(one, str) or not isinstance(other, str) or one == other:
+    if not isinstance(one, str) or not isinstance(other, str) or one == other or state not in met(wire):
         return False
-    known = standings(a_book)
-    if one not in known or other not in known or state not in met(wire):
-        return False
+    # What is no standing has no steps.
     table = steps_of_signs(a_book)
     apart = end_in(table, one, text) == one and end_in(table, other, text) == other
     return apart and end_in(goals_of_signs(wire), state, text) == state

@@ -3,6 +3,7 @@
 import copy
 import random
 import unittest
+from unittest import mock
 
 from onewayread.cones import last_fit
 from onewayread.errors import InvalidNumber, NotAWire
@@ -242,6 +243,24 @@ class Lists(TimedCase):
                     self.assertEqual(found, plain_grows(rows_between(wire, span), choices, 2 ** 16))
                     tops[max(found).bit_length()] = tops.get(max(found).bit_length(), 0) + 1
         self.assertGreater(sum(many for length, many in tops.items() if length > 4), 50, tops)
+
+    def test_longer_ways_down_against_the_steps_one_by_one(self):
+        # Numbers that fall for long are lowered by ways of their own: here, these are taken at once.
+        chance = random.Random(77)
+        tops = {}
+        with mock.patch("onewayread.falls.PATIENCE", -100):
+            for at in range(1500):
+                wire, span = spoilt_hill(chance, 6), chance.choice([1, 1, 2, 3])
+                last = 2 ** span
+                if at % 3 == 0:
+                    wire, span = some_wire(chance, 6), chance.randint(1, 6)
+                    last = border(wire, span)
+                for choices in {last, max(1, last - 1)}:
+                    found = grows(wire, span, choices) if choices > 0 else None
+                    if found is not None and max(found) < 2 ** 12:
+                        self.assertEqual(found, plain_grows(rows_between(wire, span), choices, 2 ** 12))
+                        tops[max(found).bit_length()] = tops.get(max(found).bit_length(), 0) + 1
+        self.assertGreater(sum(many for length, many in tops.items() if length > 4), 100, tops)
 
     def test_great_wires_against_the_steps_one_by_one(self):
         chance = random.Random(74)
