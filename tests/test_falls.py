@@ -84,8 +84,9 @@ class Pivots(TimedCase):
                 turned, divisor = answer
                 self.assertEqual(divisor, determinant(matrix))
                 self.assertGreaterEqual(min(min(row) for row in turned), 0)
-                self.assertEqual([[sum(matrix[one][at] * turned[at][other] for at in places) for other in places]
-                                  for one in places], [[divisor * (one == other) for other in places] for one in places])
+                for one, other in itertools.product(places, repeat=2):
+                    total = sum(matrix[one][at] * turned[at][other] for at in places)
+                    self.assertEqual(total, divisor if one == other else 0)
         self.assertGreater(min(told.values()), 200)
 
 
@@ -211,7 +212,7 @@ class Falls(TimedCase):
 
 
 class Slopes(TimedCase):
-    """Rounds in which numbers grow by three halves, and come down by two thirds again: each but great ones lose some."""
+    """Rounds in which numbers grow by three halves and come down by two thirds: all but great ones lose some."""
 
     def slope(self, many):
         arcs = [(at, sign, (at + 1) % many) for at in range(many) for sign in "abcd"[:2 if at < many // 2 else 3]]
