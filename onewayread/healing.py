@@ -95,12 +95,7 @@ class Apart:
         for state, sign, goal in wire.arcs:
             self.arcs.setdefault(state, []).append((sign, goal))
         self.slips = slips
-
-    def some_place(self):
-        """A place from which they are kept apart for ever; there has to be one."""
-        left = [(pair, states) for pair, states in self.slips.states.items() if states != 0]
-        pair, states = left[0]
-        return (*pair, states.bit_length() - 1)
+        self.seen = {}
 
     def steps(self, place):
         """Each (sign, place) to which a sign leads from a place."""
@@ -113,16 +108,30 @@ class Apart:
                 found.append((sign, (*ends, goal)))
         return found
 
-    def round_met(self):
-        """A place, and a text that leads from it back to it: the first one that is met on a walk."""
-        place = self.some_place()
-        seen = {}
+    def walk(self, place):
+        """The round (place, text) to which a walk from a place comes, or None if an earlier walk came there."""
+        begun = len(self.seen)
         line = []
-        while place not in seen:
-            seen[place] = len(line)
+        while place not in self.seen:
+            self.seen[place] = len(self.seen)
             sign, place = self.steps(place)[0]
             line.append(sign)
-        return place, "".join(line[seen[place]:])
+        at = self.seen[place] - begun
+        return (place, "".join(line[at:])) if at >= 0 else None
+
+    def some_round(self):
+        """A round (place, text) of not more signs than a text has, as far as one is met; there has to be some round."""
+        best = None
+        for pair, states in self.slips.states.items():
+            for state in self.arcs:
+                found = self.walk((*pair, state)) if states & (1 << state) != 0 else None
+                if found is not None and (best is None or len(found[1]) < len(best[1])):
+                    best = found
+                    # Most rounds are short: the first one is nearly always enough.
+                    if len(best[1]) <= LONGEST_TEXT:
+                        return best
+        place, _ = best
+        return place, self.shortest_round(place)
 
     def shortest_round(self, place):
         """The first text that leads from a place back to it; there has to be one."""
@@ -150,11 +159,7 @@ def stays(a_book, wire):
     slips.heal()
     if slips.is_healed():
         return None
-    apart = Apart(a_book, wire, slips)
-    place, text = apart.round_met()
-    # What a walk meets is mostly short; a text has not more than so many signs.
-    if len(text) > LONGEST_TEXT:
-        text = apart.shortest_round(place)
+    place, text = Apart(a_book, wire, slips).some_round()
     return (*place, text)
 
 

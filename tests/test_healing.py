@@ -188,20 +188,33 @@ class Stays(TimedCase):
                 self.assertIsNone(plain_heals(a_book, wire, len(thing[3])))
         self.assertGreater(min(told.values()), 100)
 
-    def test_the_first_text_round_where_a_walk_meets_a_long_one(self):
+    def test_shorter_texts_where_a_walk_meets_a_long_one(self):
+        # As if a text had not more than so many signs.
         chance = random.Random(646)
         shorter = 0
         for _ in range(200):
             a_book, wire = some_pair(chance, 5)
             thing = stays(a_book, wire)
             if thing is not None:
-                with mock.patch("onewayread.healing.LONGEST_TEXT", 0):
-                    other = stays(a_book, wire)
-                self.assertEqual(other[:3], thing[:3])
-                self.assertLessEqual(len(other[3]), len(thing[3]))
-                self.assertTrue(plain_is_stays(a_book, wire, other), other)
-                shorter += len(other[3]) < len(thing[3])
-        self.assertGreater(shorter, 5)
+                for longest in [0, 1, 2, len(thing[3]) - 1, len(thing[3])]:
+                    with mock.patch("onewayread.healing.LONGEST_TEXT", longest):
+                        other = stays(a_book, wire)
+                    self.assertLessEqual(len(other[3]), len(thing[3]))
+                    self.assertTrue(plain_is_stays(a_book, wire, other), other)
+                    shorter += len(other[3]) < len(thing[3])
+        self.assertGreater(shorter, 20)
+
+    def test_pairs_that_come_back_at_unlike_times(self):
+        # Words of the lengths 2 and 3 only, and a round of signs on which standings come back after so many rounds.
+        wire = Loom("ab", [(at, "ab"[at % 5 == 0], (at + 1) % 61) for at in range(61)])
+        for told in [["aa", "ab", "baa", "bab", "bba", "bbb"], ["aaa", "aab", "aba", "abb", "ba", "bb"],
+                     ["a" * many + "b" for many in range(1, 6)] + ["ba", "bb", "a" * 6]]:
+            a_book = book("ab", [word for word in told if word != "b"])
+            thing = stays(a_book, wire)
+            self.assertIs(thing is None, heals(a_book, wire) is not None)
+            if thing is not None:
+                self.assertTrue(plain_is_stays(a_book, wire, thing))
+                self.assertEqual(len(thing[3]) % 61, 0)
 
     def test_long_rounds(self):
         # Words of nine and of seven signs, and a wire that comes round in 64.
